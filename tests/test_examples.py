@@ -1,0 +1,93 @@
+"""The examples of the document, as they stand, and those of the README."""
+
+import doctest
+import pathlib
+import unittest
+
+from wraptrails.cycles import connected, girth, is_cycle, is_path, noticed, quiet, shortest_cycle, zones
+from wraptrails.trails import crossed, inward, is_trail, outward
+from wraptrails.worlds import is_world, members, plain, with_open
+
+EXAMPLES = """
+    >>> line = (("a", "b", "c"), (("p", ("a", "b"), "wrap"), ("q", ("b", "c"), "wrap")))
+    >>> ring = (("a", "b", "c"), (("p", ("a", "b"), "wrap"), ("q", ("b", "c"), "wrap"), ("r", ("a", "c"), "wrap")))
+
+Section 4:
+
+    >>> is_world((("a",), ()))
+    True
+
+    >>> members(line, "q")
+    ('b', 'c')
+
+    >>> with_open(line, ("p",))[1]
+    (('p', ('a', 'b'), 'open'), ('q', ('b', 'c'), 'wrap'))
+
+    >>> plain(line) == with_open(line, ("q", "p"))
+    True
+
+Section 5:
+
+    >>> is_path(ring, ("a", "p", "b", "q", "c"))
+    True
+    >>> is_cycle(ring, (("a", "p"), ("b", "q"), ("c", "r")))
+    True
+
+    >>> connected(line, "a", "c", without=("q",))
+    False
+
+    >>> zones(with_open(line, ("p",)))
+    (('a', 'b'), ('c',))
+
+    >>> quiet(ring)
+    ()
+
+    >>> noticed(with_open(ring, ("p", "q")))
+    ('r',)
+
+    >>> girth(ring)
+    3
+
+    >>> shortest_cycle(line) is None
+    True
+
+Section 6:
+
+    >>> is_trail(line, (("p", "a", "b"), ("q", "b", "c")))
+    True
+
+    >>> crossed((("p", "a", "b"),), "p", "b", "a")
+    ()
+
+    >>> inward((), (("p", "a", "b"),))
+    (('p', 'b', 'a'),)
+
+    >>> outward((("p", "b", "a"),), (("p", "a", "b"),))
+    ()
+"""
+
+NAMES = {function.__name__: function for function in (
+    connected, girth, is_cycle, is_path, noticed, quiet, shortest_cycle, zones,
+    crossed, inward, is_trail, outward, is_world, members, plain, with_open)}
+
+
+README = pathlib.Path(__file__).resolve().parent.parent / "README.md"
+
+
+class Examples(unittest.TestCase):
+    def check(self, text, names, count):
+        examples = doctest.DocTestParser().get_doctest(text, names, "examples", None, 0)
+        wrong = []
+        outcome = doctest.DocTestRunner(verbose=False).run(examples, out=wrong.append)
+        self.assertEqual(outcome.failed, 0, "".join(wrong))
+        self.assertGreaterEqual(outcome.attempted, count)
+
+    def test_document(self):
+        self.check(EXAMPLES, dict(NAMES), 18)
+
+    def test_readme(self):
+        self.check(README.read_text(encoding="utf-8"), {}, 10)
+
+
+if __name__ == "__main__":
+    unittest.main()

@@ -1,0 +1,163 @@
+"""The rules of the language subset that can be seen from the form of the code, and where the interface stands."""
+
+import ast
+import builtins
+import pathlib
+import re
+import unittest
+
+FOLDER = pathlib.Path(__file__).resolve().parent.parent / "wraptrails"
+
+INTERFACE = {
+    "errors": ("TrailError", "UnknownGateway", "BadStep", "NoEntry", "NotNeeded", "HasRevoke", "Unnoticed", "BadRegions",
+               "BadGateway", "TakenGateway", "TooMany", "ClosesCycle", "NothingDone", "BadMark", "BadText", "BadLine"),
+    "worlds": ("is_world", "members", "with_open", "plain"),
+    "cycles": ("is_path", "is_cycle", "connected", "zones", "quiet", "noticed", "girth", "shortest_cycle"),
+    "trails": ("is_trail", "crossed", "inward", "outward"),
+}
+
+BUILTINS = set("""len range enumerate zip min max sum abs sorted reversed int str bool list tuple dict set isinstance ord
+    repr any all divmod iter next Exception ValueError TypeError KeyError IndexError LookupError ZeroDivisionError
+    ArithmeticError OverflowError RuntimeError NotImplementedError AttributeError StopIteration NotImplemented
+    property staticmethod classmethod super""".split())
+DOUBLE = set("__init__ __eq__ __repr__ __str__ __len__ __enter__ __exit__ __call__ __iter__".split())
+WORDS = re.compile(r"\b(type|typing|typing_extensions|enum|Enum|IntEnum|StrEnum|Flag|IntFlag|Generic|Protocol|ABC|ABCMeta|"
+                   r"namedtuple|NamedTuple|TypedDict|TYPE_CHECKING|abstractmethod)\b|dataclass|overload|contextmanager")
+NEVER = set("register mro elements open input law version_info with_traceback add_note".split())
+METHODS = set("""append clear copy count endswith extend find get index insert isalnum isalpha isdigit islower isspace
+    isupper items join keys ljust lower lstrip partition pop remove replace reverse rfind rjust rpartition rsplit rstrip
+    setdefault split splitlines startswith strip update upper values zfill bit_length add discard sort""".split())
+BARRED = (ast.Global, ast.AsyncFunctionDef, ast.AsyncFor, ast.AsyncWith, ast.Await, ast.Import, ast.Div, ast.MatMult)
+
+
+def files():
+    return {path.stem: path for path in sorted(FOLDER.iterdir()) if path.name != "__pycache__"}
+
+
+def trees():
+    return {name: ast.parse(path.read_text(encoding="utf-8")) for name, path in files().items()}
+
+
+def defined(tree):
+    return [node.name for node in tree.body if isinstance(node, (ast.FunctionDef, ast.ClassDef))]
+
+
+def imports(tree):
+    return [node for node in tree.body if isinstance(node, ast.ImportFrom)]
+
+
+def functions(tree):
+    return [node for node in ast.walk(tree) if isinstance(node, ast.FunctionDef)]
+
+
+def bound_names(tree):
+    """All names that functions bind: parameters and targets."""
+    found = [node.arg for node in ast.walk(tree) if isinstance(node, ast.arg)]
+    for function in functions(tree):
+        found.extend(node.id for node in ast.walk(function) if isinstance(node, ast.Name) and isinstance(node.ctx, ast.Store))
+    return found
+
+
+class Interface(unittest.TestCase):
+    def test_each_name_is_defined_in_its_file(self):
+        for name, expected in INTERFACE.items():
+            found = defined(trees()[name])
+            for thing in expected:
+                self.assertEqual(found.count(thing), 1, thing)
+
+
+class Language(unittest.TestCase):
+    def test_files(self):
+        self.assertIn("__init__", files())
+        for name, path in files().items():
+            self.assertTrue(path.is_file() and re.fullmatch(r"[a-z_][a-z0-9_]*\.py", path.name), path)
+            self.assertFalse(name in vars(builtins) or name.startswith(("test", "law_")), name)
+
+    def test_sizes_and_signs(self):
+        for path in files().values():
+            text = path.read_text(encoding="utf-8")
+            self.assertTrue(all(sign == "\n" or " " <= sign <= "~" for sign in text), path)
+            lines = text.splitlines()
+            self.assertLess(len(lines), 400, path)
+            self.assertLessEqual(max([len(line) for line in lines]), 120, path)
+            self.assertIsNone(WORDS.search(text), path)
+        for tree in trees().values():
+            for function in functions(tree):
+                self.assertLessEqual(function.end_lineno - function.lineno + 1, 40, function.name)
+
+    def test_imports(self):
+        everything = trees()
+        for name, tree in everything.items():
+            for node in imports(tree):
+                package, _, module = node.module.partition(".")
+                self.assertEqual((package, node.level), ("wraptrails", 0), name)
+                for alias in node.names:
+                    self.assertIn(alias.name, defined(everything[module]))
+
+    def test_no_two_files_import_from_each_other(self):
+        needs = {name: {node.module.partition(".")[2] for node in imports(tree)} for name, tree in trees().items()}
+        while needs:
+            free = [name for name, others in needs.items() if not others & set(needs)]
+            self.assertTrue(free, needs)
+            needs = {name: others for name, others in needs.items() if name not in free}
+
+    def test_module_level(self):
+        for name, tree in trees().items():
+            self.assertIsNotNone(ast.get_docstring(tree), name)
+            bound = defined(tree) + [alias.asname or alias.name for node in imports(tree) for alias in node.names]
+            for node in tree.body[1:]:
+                self.assertIsInstance(node, (ast.ImportFrom, ast.FunctionDef, ast.ClassDef, ast.Assign), name)
+                if isinstance(node, ast.Assign):
+                    bound.extend(target.id for target in node.targets)
+                    ast.literal_eval(node.value)
+            self.assertEqual(len(bound), len(set(bound)), name)
+            self.assertFalse([thing for thing in bound if thing in vars(builtins)], name)
+
+    def test_nodes(self):
+        for name, tree in trees().items():
+            for node in ast.walk(tree):
+                self.assertNotIsInstance(node, BARRED, name)
+                if isinstance(node, ast.FunctionDef):
+                    self.assertFalse(node.decorator_list or node.args.posonlyargs, node.name)
+                if isinstance(node, ast.Constant):
+                    self.assertNotIsInstance(node.value, (float, complex), name)
+                    self.assertFalse(isinstance(node.value, str) and "%" in node.value, name)
+                if isinstance(node, ast.Compare):
+                    for sign, right in zip(node.ops, node.comparators):
+                        if isinstance(sign, (ast.Is, ast.IsNot)):
+                            self.assertTrue(isinstance(right, ast.Constant) and right.value in (None, True, False), name)
+
+    def test_names(self):
+        for name, tree in trees().items():
+            taken = [alias.name for node in imports(tree) for alias in node.names]
+            taken += [node.name for node in tree.body if isinstance(node, ast.ClassDef)]
+            for bound in bound_names(tree) + [function.name for function in functions(tree)]:
+                self.assertFalse(bound.startswith("_") and bound not in DOUBLE, bound)
+                self.assertNotIn(bound, NEVER)
+            for bound in bound_names(tree):
+                self.assertNotIn(bound, taken, name)
+                self.assertFalse(bound in vars(builtins), bound)
+
+    def test_builtins_and_methods(self):
+        for name, tree in trees().items():
+            for node in ast.walk(tree):
+                if isinstance(node, ast.Name) and node.id in vars(builtins):
+                    self.assertIn(node.id, BUILTINS, name)
+                if isinstance(node, ast.Call) and isinstance(node.func, ast.Attribute):
+                    own = [function.name for other in trees().values() for function in functions(other)]
+                    self.assertIn(node.func.attr, METHODS | set(own), name)
+
+    def test_sets_stand_where_their_order_does_not_matter(self):
+        for name, tree in trees().items():
+            parents = {child: node for node in ast.walk(tree) for child in ast.iter_child_nodes(node)}
+            for node in ast.walk(tree):
+                made = isinstance(node, ast.Call) and isinstance(node.func, ast.Name) and node.func.id == "set"
+                if made or isinstance(node, (ast.SetComp, ast.Set)):
+                    parent = parents[node]
+                    around = parent.func.id if isinstance(parent, ast.Call) and isinstance(parent.func, ast.Name) else ""
+                    good = around in ("len", "sorted") or isinstance(parent, (ast.Assign, ast.Compare, ast.BinOp))
+                    self.assertTrue(good, name)
+
+
+if __name__ == "__main__":
+    unittest.main()

@@ -1,0 +1,1 @@
+"""Wraptrails: can a program notice that its references are wrapped?"""
