@@ -63,11 +63,12 @@ def ring_world(size, kinds):
     return (regions, tuple(gateways))
 
 
-def random_world(chance, most_regions, most_gateways, most_members, kinds=("wrap", "open")):
-    regions = tuple(string.ascii_lowercase[:chance.randint(1, most_regions)])
+def random_world(chance, most_regions, most_gateways, most_members, kinds=("wrap", "open"), full=False):
+    """A world of any size up to these; if it is to be full, with as many regions and gateways as it may have."""
+    regions = tuple(string.ascii_lowercase[:most_regions if full else chance.randint(1, most_regions)])
     gateways = []
     if len(regions) > 1:
-        for at in range(chance.randint(0, most_gateways)):
+        for at in range(most_gateways if full else chance.randint(0, most_gateways)):
             count = chance.randint(2, min(most_members, len(regions)))
             gateways.append(("g" + string.ascii_lowercase[at], tuple(sorted(chance.sample(regions, count))),
                              chance.choice(kinds)))
@@ -112,6 +113,7 @@ def full_world(kinds):
 def all_worlds():
     """Worlds small enough for the slow answers below."""
     return (fixed_worlds() + random_worlds(1, 150, 5, 5, 4) + random_worlds(2, 60, 10, 10, 2)
+            + random_worlds(20, 10, 10, 10, 2, full=True)
             + random_worlds(3, 30, 5, 5, 4, kinds=("wrap",)) + random_worlds(4, 10, 5, 5, 4, kinds=("open",)))
 
 
@@ -123,24 +125,24 @@ def wraps(world):
     return [name for name, ends, kind in world[1] if kind == "wrap"]
 
 
-def all_paths(world):
-    """All paths of the world, by going on in every way."""
+def all_paths(world, most=10):
+    """All paths of the world with at most this many gateways, by going on in every way."""
     found = []
     waiting = [(region,) for region in world[0]]
     while waiting:
         path = waiting.pop()
         found.append(path)
         for name, ends in table(world).items():
-            if path[-1] in ends and name not in path[1::2]:
+            if len(path) // 2 < most and path[-1] in ends and name not in path[1::2]:
                 waiting.extend(path + (name, end) for end in ends if end not in path[::2])
     return found
 
 
-def all_cycles(world):
-    """All cycles of the world: paths that one more gateway leads back to their start."""
+def all_cycles(world, most=10):
+    """All cycles with at most this many gateways: paths that one more gateway leads back to their start."""
     ends = table(world)
     found = []
-    for path in all_paths(world):
+    for path in all_paths(world, most - 1):
         for name in ends:
             if len(path) > 1 and name not in path[1::2] and path[0] in ends[name] and path[-1] in ends[name]:
                 found.append(tuple(zip(path[::2], path[1::2] + (name,))))

@@ -253,7 +253,7 @@ class OnCycles(unittest.TestCase):
 
     def test_large_worlds(self):
         """A gateway is on no cycle exactly if each of its members falls into a piece of its own without it."""
-        for world in random_worlds(6, 150, 10, 10, 5):
+        for world in random_worlds(6, 100, 10, 10, 5) + random_worlds(18, 50, 10, 10, 3, full=True):
             names = list(table(world))
             silent = []
             for name in names:
@@ -265,6 +265,8 @@ class OnCycles(unittest.TestCase):
             self.assertEqual(noticed(world), tuple(name for name in wraps(world) if name not in silent))
             self.assertEqual(girth(world) is None, noticed(world) == ())
             self.check_shortest(world, girth(world))
+            shorter = all_cycles(world, (girth(world) or 2) - 1)
+            self.assertFalse([cycle for cycle in shorter if any(name in wraps(world) for region, name in cycle)])
 
     def test_somewhat_more_than_the_limits(self):
         world = ring_world(14, ("wrap", "open"))
