@@ -251,9 +251,14 @@ class OnCycles(unittest.TestCase):
         self.assertEqual(noticed(full_world(("open",))), ())
         self.check_shortest(full_world(("open",)), None)
 
+    def sparse_worlds(self):
+        """Worlds of ten regions and ten gateways, few of which wrap, so that their cycles are longer."""
+        return [world for members in (2, 3) for world in random_worlds(
+            18, 60, 10, 10, members, kinds=("open",) * 6 + ("wrap",), full=True)]
+
     def test_large_worlds(self):
         """A gateway is on no cycle exactly if each of its members falls into a piece of its own without it."""
-        for world in random_worlds(6, 100, 10, 10, 5) + random_worlds(18, 50, 10, 10, 3, full=True):
+        for world in random_worlds(6, 100, 10, 10, 5) + self.sparse_worlds():
             names = list(table(world))
             silent = []
             for name in names:
