@@ -1,5 +1,6 @@
 """What holds of all functions: how they are called, and that a call changes nothing."""
 
+import contextlib
 import copy
 import inspect
 import os
@@ -8,7 +9,8 @@ import sys
 import unittest
 
 from samples import HUB, LINE, LONE, NAMESAKES, RING, TWIN, full_world, odd_values, ring_world
-from wraptrails import cycles, errors, trails, worlds
+from slow import chances, drawn_program
+from wraptrails import cycles, differences, errors, machines, programs, trailmachine, trails, worlds
 
 AB = ("p", "a", "b")
 WORLDS = (LONE, LINE, RING, HUB, TWIN, NAMESAKES, ring_world(6, ("wrap", "open")), full_world(("wrap", "open")))
@@ -30,6 +32,19 @@ PARAMETERS = {
     trails.crossed: ("trail", "gateway", "start", "end"),
     trails.inward: ("trail", "along"),
     trails.outward: ("trail", "along"),
+    programs.is_step: ("world", "value"),
+    programs.is_program: ("world", "value"),
+    programs.has_revoke: ("program",),
+    machines.answers: ("world", "program"),
+    differences.differences: ("world", "program"),
+    differences.compared: ("world", "program"),
+}
+
+TRAIL_METHODS = {"do": ("step",), "run": ("program",), "answers": (), "value": ("region", "name"), "object_count": (),
+                 "revoked": (), "__init__": ("world",), "__len__": ()}
+METHODS = {
+    machines.Machine: {**TRAIL_METHODS, "entries": (), "needed": (), "collect": (), "forget": ("entry",), "copied": ()},
+    trailmachine.TrailMachine: TRAIL_METHODS,
 }
 
 # Prints results that could depend on the order of a set.
@@ -37,6 +52,14 @@ SHOW = """
 from samples import all_worlds
 from wraptrails.cycles import noticed, quiet, shortest_cycle, zones
 print([(zones(world), quiet(world), noticed(world), shortest_cycle(world)) for world in all_worlds()])
+
+from slow import chances, drawn_program, machine_worlds
+from wraptrails.differences import compared
+from wraptrails.machines import Machine
+for world in machine_worlds():
+    program = drawn_program(chances(50, 1)[0], world, 80)
+    machine = Machine(world)
+    print(compared(world, program), machine.run(program), machine.entries(), machine.needed(), machine.collect())
 """
 
 
@@ -46,8 +69,14 @@ def calls():
     for world in WORLDS:
         for function in (worlds.plain, cycles.zones, cycles.quiet, cycles.noticed, cycles.girth, cycles.shortest_cycle):
             found.append((function, (world,)))
-        for function in (worlds.members, cycles.is_path, cycles.is_cycle, trails.is_trail):
+        for function in (worlds.members, cycles.is_path, cycles.is_cycle, trails.is_trail, programs.is_step,
+                         programs.is_program):
             found.extend((function, (world, value)) for value in odd_values())
+        for chance in chances(51, 4):
+            program = drawn_program(chance, world, 40, revokes=chance.choice((0, 4)))
+            found.append((programs.has_revoke, (program,)))
+            found.extend((function, (world, program)) for function in (
+                programs.is_program, machines.answers, differences.differences, differences.compared))
         names = tuple(name for name, ends, kind in world[1])
         found.extend((worlds.with_open, (world, names[:at])) for at in range(len(names)))
         found.extend((worlds.with_open, (world, names[:1] + (value,))) for value in odd_values())
@@ -65,15 +94,15 @@ def outcome(function, arguments):
         if function is cycles.connected:
             return function(*arguments[:3], without=arguments[3])
         return function(*arguments)
-    except errors.UnknownGateway as error:
-        return ("error", error.name)
+    except errors.TrailError as error:
+        return ("error", type(error), vars(error))
 
 
 def outcome_by_name(function, arguments):
     try:
         return function(**dict(zip(PARAMETERS[function], arguments, strict=True)))
-    except errors.UnknownGateway as error:
-        return ("error", error.name)
+    except errors.TrailError as error:
+        return ("error", type(error), vars(error))
 
 
 class Calls(unittest.TestCase):
@@ -89,6 +118,26 @@ class Calls(unittest.TestCase):
                 kind = parameter.KEYWORD_ONLY if only_by_name else parameter.POSITIONAL_OR_KEYWORD
                 self.assertEqual(parameter.kind, kind)
                 self.assertEqual(parameter.default, () if only_by_name else parameter.empty)
+
+    def test_parameters_of_methods(self):
+        for made, methods in METHODS.items():
+            for method, names in methods.items():
+                # In the class itself, not only in a base class.
+                self.assertIn(method, vars(made))
+                parameters = inspect.signature(vars(made)[method]).parameters
+                self.assertEqual(tuple(parameters)[1:], names)
+                for parameter in parameters.values():
+                    self.assertEqual((parameter.kind, parameter.default), (parameter.POSITIONAL_OR_KEYWORD, parameter.empty))
+
+    def test_methods_do_not_change_what_they_are_passed(self):
+        for made in METHODS:
+            machine = made(LINE)
+            for value, kept in zip(odd_values() + [[("new", "a", "x")]], odd_values() + [[("new", "a", "x")]], strict=True):
+                for method in [name for name in ("do", "run", "forget") if name in METHODS[made]]:
+                    with contextlib.suppress(errors.TrailError):
+                        getattr(machine, method)(value)
+                    self.assertEqual(repr(value), repr(kept))
+            self.assertEqual(len(machine), 0)
 
     def test_arguments_do_not_change(self):
         for function, arguments in calls():

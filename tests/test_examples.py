@@ -5,6 +5,10 @@ import pathlib
 import unittest
 
 from wraptrails.cycles import connected, girth, is_cycle, is_path, noticed, quiet, shortest_cycle, zones
+from wraptrails.differences import compared, differences
+from wraptrails.machines import Machine, answers
+from wraptrails.programs import has_revoke, is_step
+from wraptrails.trailmachine import TrailMachine
 from wraptrails.trails import crossed, inward, is_trail, outward
 from wraptrails.worlds import is_world, members, plain, with_open
 
@@ -64,11 +68,44 @@ Section 6:
 
     >>> outward((("p", "b", "a"),), (("p", "a", "b"),))
     ()
+
+Section 7:
+
+    >>> is_step(line, ("enter", "a", "x", "q", "c"))
+    False
+
+    >>> has_revoke((("revoke", "p"), ("new", "a", "x")))
+    True
+
+Section 8:
+
+    >>> machine = Machine(line)
+    >>> machine.run((("enter", "b", "x", "p", "a"), ("put", "b", "x", "f", "x"), ("get", "a", "root", "f", "y"), ("same", "a", "root", "y")))
+    (None, None, 'object', True)
+    >>> [machine.value("b", "x"), machine.entries()]
+    [('object', 0, (('p', 'a', 'b'),)), (('p', 'a', 0, (), 'b'),)]
+
+    >>> answers(line, (("get", "a", "x", "f", "y"), ("number", "a", "x", 7), ("same", "a", "x", "y")))
+    ('no object', None, False)
+
+Section 9:
+
+    >>> TrailMachine(line).run((("enter", "b", "x", "p", "a"), ("same", "b", "x", "root")))
+    (None, False)
+
+Section 10:
+
+    >>> differences(line, (("enter", "b", "x", "p", "a"), ("same", "b", "x", "x")))
+    ()
+
+    >>> compared(line, (("same", "a", "root", "root"),))
+    ((0, 0, (), ()),)
 """
 
 NAMES = {function.__name__: function for function in (
     connected, girth, is_cycle, is_path, noticed, quiet, shortest_cycle, zones,
-    crossed, inward, is_trail, outward, is_world, members, plain, with_open)}
+    crossed, inward, is_trail, outward, is_world, members, plain, with_open, has_revoke, is_step, Machine, answers,
+    TrailMachine, differences, compared)}
 
 
 README = pathlib.Path(__file__).resolve().parent.parent / "README.md"
@@ -83,10 +120,10 @@ class Examples(unittest.TestCase):
         self.assertGreaterEqual(outcome.attempted, count)
 
     def test_document(self):
-        self.check(EXAMPLES, dict(NAMES), 18)
+        self.check(EXAMPLES, dict(NAMES), 27)
 
     def test_readme(self):
-        self.check(README.read_text(encoding="utf-8"), {}, 10)
+        self.check(README.read_text(encoding="utf-8"), {}, 25)
 
 
 if __name__ == "__main__":

@@ -14,6 +14,10 @@ INTERFACE = {
     "worlds": ("is_world", "members", "with_open", "plain"),
     "cycles": ("is_path", "is_cycle", "connected", "zones", "quiet", "noticed", "girth", "shortest_cycle"),
     "trails": ("is_trail", "crossed", "inward", "outward"),
+    "programs": ("is_step", "is_program", "has_revoke"),
+    "machines": ("Machine", "answers"),
+    "trailmachine": ("TrailMachine",),
+    "differences": ("differences", "compared"),
 }
 
 BUILTINS = set("""len range enumerate zip min max sum abs sorted reversed int str bool list tuple dict set isinstance ord
@@ -55,7 +59,37 @@ def bound_names(tree):
     found = [node.arg for node in ast.walk(tree) if isinstance(node, ast.arg)]
     for function in functions(tree):
         found.extend(node.id for node in ast.walk(function) if isinstance(node, ast.Name) and isinstance(node.ctx, ast.Store))
+        found.extend(captured_names(function))
     return found
+
+
+def captured_names(node):
+    return [part.name for part in ast.walk(node) if isinstance(part, (ast.MatchAs, ast.MatchStar)) and part.name is not None]
+
+
+def classes(tree):
+    return [node for node in tree.body if isinstance(node, ast.ClassDef)]
+
+
+def methods(tree):
+    return [part.name for made in classes(tree) for part in made.body if isinstance(part, ast.FunctionDef)]
+
+
+def attributes(tree):
+    """All attributes that are assigned, and all that are read without being called."""
+    called = [node.func for node in ast.walk(tree) if isinstance(node, ast.Call)]
+    found = [node for node in ast.walk(tree) if isinstance(node, ast.Attribute)]
+    assigned = [node.attr for node in found if isinstance(node.ctx, ast.Store)]
+    return assigned, [node.attr for node in found if isinstance(node.ctx, ast.Load) and node not in called]
+
+
+def is_lazy(node):
+    """Whether a call gives what must be iterated at once."""
+    if not isinstance(node, ast.Call):
+        return False
+    if isinstance(node.func, ast.Attribute):
+        return node.func.attr in ("items", "keys", "values")
+    return isinstance(node.func, ast.Name) and node.func.id in ("zip", "enumerate", "reversed", "range")
 
 
 class Interface(unittest.TestCase):
@@ -146,6 +180,53 @@ class Language(unittest.TestCase):
                 if isinstance(node, ast.Call) and isinstance(node.func, ast.Attribute):
                     own = [function.name for other in trees().values() for function in functions(other)]
                     self.assertIn(node.func.attr, METHODS | set(own), name)
+
+    def test_classes(self):
+        everything = trees().values()
+        named = {name for tree in everything for name in methods(tree)}
+        assigned = {name for tree in everything for name in attributes(tree)[0]}
+        self.assertFalse(named & assigned)
+        for tree in everything:
+            for made in classes(tree):
+                own = [part.name for part in made.body if isinstance(part, ast.FunctionDef)]
+                self.assertEqual(len(own), len(set(own)), made.name)
+                self.assertIsNotNone(ast.get_docstring(made), made.name)
+                self.assertEqual(len(own), len(made.body) - 1, made.name)
+            for name in attributes(tree)[1]:
+                self.assertIn(name, assigned)
+            for function in functions(tree):
+                if function.name == "__len__":
+                    last = function.body[-1]
+                    self.assertTrue(isinstance(last, ast.Return) and last.value.func.id == "len")
+                self.assertFalse(function.name.startswith("__") and function.name not in DOUBLE, function.name)
+
+    def test_own_methods_are_no_methods_of_builtin_values(self):
+        taken = {name for kind in (str, int, list, dict, set, bytes, tuple) for name in dir(kind)}
+        for name, tree in trees().items():
+            for thing in methods(tree) + attributes(tree)[0]:
+                self.assertTrue(thing in DOUBLE or thing not in taken or thing in ("count",), thing)
+
+    def test_iterated_at_once(self):
+        for name, tree in trees().items():
+            parents = {child: node for node in ast.walk(tree) for child in ast.iter_child_nodes(node)}
+            for node in ast.walk(tree):
+                if is_lazy(node):
+                    parent = parents[node]
+                    around = parent.func.id if isinstance(parent, ast.Call) and isinstance(parent.func, ast.Name) else ""
+                    good = around in ("list", "tuple", "dict", "sorted", "sum", "any", "all", "enumerate", "zip")
+                    self.assertTrue(good or isinstance(parent, (ast.For, ast.comprehension)), (name, node.lineno))
+
+    def test_match(self):
+        allowed = (ast.MatchSequence, ast.MatchValue, ast.MatchAs, ast.MatchStar, ast.MatchSingleton, ast.MatchOr)
+        for name, tree in trees().items():
+            for node in ast.walk(tree):
+                if isinstance(node, ast.pattern):
+                    self.assertIsInstance(node, allowed, name)
+            for function in functions(tree):
+                captured = captured_names(function)
+                stored = [node.id for node in ast.walk(function) if isinstance(node, ast.Name) and isinstance(node.ctx, ast.Store)]
+                given = [node.arg for node in ast.walk(function) if isinstance(node, ast.arg)]
+                self.assertFalse(set(captured) & set(stored + given), function.name)
 
     def test_sets_stand_where_their_order_does_not_matter(self):
         for name, tree in trees().items():

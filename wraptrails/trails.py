@@ -1,7 +1,7 @@
 """Trails: the crossings by which a reference was wrapped."""
 
 from wraptrails.cycles import zones
-from wraptrails.worlds import members, wrapping_names
+from wraptrails.worlds import leads, wrapping_names
 
 
 def is_crossing(world, value):
@@ -9,10 +9,7 @@ def is_crossing(world, value):
     if not isinstance(value, tuple) or len(value) != 3:
         return False
     gateway, start, end = value
-    if gateway not in wrapping_names(world):
-        return False
-    those = members(world, gateway)
-    return start in those and end in those and start != end
+    return gateway in wrapping_names(world) and leads(world, gateway, start, end)
 
 
 def is_trail(world, value):

@@ -83,6 +83,12 @@ def members(world, name):
     raise UnknownGateway(name)
 
 
+def leads(world, name, start, end):
+    """Tell whether the gateway with this name has any two values as two different members."""
+    those = members(world, name)
+    return start in those and end in those and start != end
+
+
 def with_open(world, names):
     """Return the world in which exactly these gateways are open and all others wrap."""
     regions, gateways = world
