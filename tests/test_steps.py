@@ -373,6 +373,25 @@ class Steps:
         self.assertEqual(given[-1], True)
         self.assertEqual(len(machine.answers()), 600)
 
+    def test_trails_of_five_hundred_crossings(self):
+        machine = self.made(RING, ("enter", "b", "l", "p", "a"), ("enter", "c", "l", "q", "b"), ("enter", "a", "l", "r", "c"),
+                            ("put", "b", "root", "f", "l"), ("get", "c", "l", "f", "x"), ("put", "c", "root", "f", "x"),
+                            ("get", "a", "l", "f", "xa"))
+        whole = (AB, BC, CA)
+        for one, other in zip("abcdefg", "bcdefgh"):
+            # Twice as long each time.
+            machine.run((("put", "a", "root", "f", "x" + one), ("get", "a", "x" + one, "f", "x" + other)))
+        for name in ("xf", "xc", "xb"):
+            machine.run((("put", "a", "root", "f", "xh"), ("get", "a", name, "f", "xh")))
+        self.assertEqual(machine.value("a", "xh"), ("object", 0, whole * 166))
+        self.check(machine, (("put", "a", "xh", "g", "root"), None), (("get", "a", "root", "g", "y"), "object"),
+                   (("same", "a", "y", "xh"), False), (("get", "a", "xh", "g", "z"), "object"), (("same", "a", "z", "root"), True),
+                   (("number", "a", "n", 10 ** 59), None), (("put", "a", "xh", "n", "n"), None), (("get", "a", "y", "n", "m"), 10 ** 59))
+        self.assertEqual(machine.value("a", "y"), ("object", 0, tuple((g, end, start) for g, start, end in whole[::-1]) * 166))
+        self.check(machine, (("revoke", "q"), None), (("get", "a", "xh", "n", "m"), "cut"), (("put", "a", "y", "n", "m"), "cut"),
+                   (("same", "a", "xh", "xh"), True), (("put", "a", "root", "f", "xh"), None), (("get", "b", "l", "f", "y"), "object"))
+        self.assertEqual(len(machine.value("b", "y")[2]), 499)
+
     def test_six_hundred_drawn_steps(self):
         for world in (RING, ALIKE, ring_world(2, ("wrap",)), TWIN):
             program = drawn_program(chances(6, 1)[0], world, 600, revokes=0.2, longest=60)
