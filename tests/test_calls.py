@@ -10,7 +10,9 @@ import unittest
 
 from samples import HUB, LINE, LONE, NAMESAKES, RING, TWIN, full_world, odd_values, ring_world
 from slow import chances, drawn_program
-from wraptrails import cycles, differences, errors, machines, programs, trailmachine, trails, worlds
+from test_steps import state
+from wraptrails import (builders, continuations, cuts, cycles, detectors, differences, errors, machines, programs,
+                        trailmachine, trails, worlds)
 
 AB = ("p", "a", "b")
 WORLDS = (LONE, LINE, RING, HUB, TWIN, NAMESAKES, ring_world(6, ("wrap", "open")), full_world(("wrap", "open")))
@@ -38,6 +40,14 @@ PARAMETERS = {
     machines.answers: ("world", "program"),
     differences.differences: ("world", "program"),
     differences.compared: ("world", "program"),
+    detectors.steps_needed: ("world",),
+    detectors.detector: ("world",),
+    detectors.shows_detector: ("world", "value"),
+    cuts.least_cut: ("world", "one", "other"),
+    cuts.shows_cut: ("world", "one", "other", "value"),
+    cuts.cut_variables: ("machine",),
+    continuations.continuation: ("machine", "entry"),
+    continuations.shows_continuation: ("machine", "entry", "value"),
 }
 
 TRAIL_METHODS = {"do": ("step",), "run": ("program",), "answers": (), "value": ("region", "name"), "object_count": (),
@@ -45,7 +55,11 @@ TRAIL_METHODS = {"do": ("step",), "run": ("program",), "answers": (), "value": (
 METHODS = {
     machines.Machine: {**TRAIL_METHODS, "entries": (), "needed": (), "collect": (), "forget": ("entry",), "copied": ()},
     trailmachine.TrailMachine: TRAIL_METHODS,
+    builders.Builder: {"__init__": ("regions",), "__len__": (), "add": ("name", "members", "kind"), "remove": ("name",),
+                       "world": (), "back": ()},
 }
+# Parameters that are passed by name only, and what they are if they are not passed.
+BY_NAME = {(cycles.connected, "without"): (), (builders.Builder.add, "kind"): "wrap"}
 
 # Prints results that could depend on the order of a set.
 SHOW = """
@@ -54,12 +68,18 @@ from wraptrails.cycles import noticed, quiet, shortest_cycle, zones
 print([(zones(world), quiet(world), noticed(world), shortest_cycle(world)) for world in all_worlds()])
 
 from slow import chances, drawn_program, machine_worlds
+from wraptrails.continuations import continuation
+from wraptrails.cuts import least_cut
+from wraptrails.detectors import detector, steps_needed
 from wraptrails.differences import compared
 from wraptrails.machines import Machine
 for world in machine_worlds():
     program = drawn_program(chances(50, 1)[0], world, 80)
     machine = Machine(world)
     print(compared(world, program), machine.run(program), machine.entries(), machine.needed(), machine.collect())
+    print([continuation(machine, entry) for entry in machine.needed()])
+    print([least_cut(world, one, other) for one in world[0] for other in world[0]])
+    print(steps_needed(world) and detector(world))
 """
 
 
@@ -67,25 +87,47 @@ def calls():
     """(function, arguments) for every function, with values of every kind where they are allowed."""
     found = [(worlds.is_world, (value,)) for value in [*odd_values(), *WORLDS]]
     for world in WORLDS:
-        for function in (worlds.plain, cycles.zones, cycles.quiet, cycles.noticed, cycles.girth, cycles.shortest_cycle):
+        for function in (worlds.plain, cycles.zones, cycles.quiet, cycles.noticed, cycles.girth, cycles.shortest_cycle,
+                         detectors.steps_needed, detectors.detector):
             found.append((function, (world,)))
         for function in (worlds.members, cycles.is_path, cycles.is_cycle, trails.is_trail, programs.is_step,
-                         programs.is_program):
+                         programs.is_program, detectors.shows_detector):
             found.extend((function, (world, value)) for value in odd_values())
         for chance in chances(51, 4):
             program = drawn_program(chance, world, 40, revokes=chance.choice((0, 4)))
             found.append((programs.has_revoke, (program,)))
             found.extend((function, (world, program)) for function in (
-                programs.is_program, machines.answers, differences.differences, differences.compared))
+                programs.is_program, machines.answers, differences.differences, differences.compared,
+                detectors.shows_detector))
+            found.extend(calls_with(world, program))
         names = tuple(name for name, ends, kind in world[1])
         found.extend((worlds.with_open, (world, names[:at])) for at in range(len(names)))
         found.extend((worlds.with_open, (world, names[:1] + (value,))) for value in odd_values())
         found.append((cycles.connected, (world, world[0][0], world[0][-1], names[1:])))
+        for ends in ((world[0][0], world[0][-1]), (world[0][-1], world[0][0]), world[0][:1] * 2):
+            found.append((cuts.least_cut, (world, *ends)))
+            found.extend((cuts.shows_cut, (world, *ends, value)) for value in [*odd_values(), cuts.least_cut(world, *ends)])
     for trail in ((), (AB,), (AB, ("q", "b", "c"))):
         found.append((trails.crossed, (trail, "p", "b", "a")))
         found.append((trails.inward, (trail, (AB,))))
         found.append((trails.outward, (trail, (AB,))))
     return found
+
+
+def calls_with(world, program):
+    """Calls with a machine that has run the program."""
+    machine = machines.Machine(world)
+    machine.run(program)
+    found = [(cuts.cut_variables, (machine,))]
+    for entry in [*odd_values(), *machine.entries()[:3]]:
+        found.append((continuations.continuation, (machine, entry)))
+        found.extend((continuations.shows_continuation, (machine, entry, value)) for value in odd_values()[::6])
+    return found
+
+
+def comparable(arguments):
+    """The arguments with what can be seen of a machine instead of it."""
+    return [state(value) if isinstance(value, machines.Machine) else value for value in arguments]
 
 
 def outcome(function, arguments):
@@ -109,15 +151,18 @@ class Calls(unittest.TestCase):
     def test_every_function_is_called(self):
         self.assertEqual({function for function, arguments in calls()}, set(PARAMETERS))
 
+    def check_parameter(self, function, name, parameter):
+        only_by_name = (function, name) in BY_NAME
+        kind = parameter.KEYWORD_ONLY if only_by_name else parameter.POSITIONAL_OR_KEYWORD
+        self.assertEqual(parameter.kind, kind)
+        self.assertEqual(parameter.default, BY_NAME.get((function, name), parameter.empty))
+
     def test_parameters(self):
         for function, names in PARAMETERS.items():
             parameters = inspect.signature(function).parameters
             self.assertEqual(tuple(parameters), names)
             for name, parameter in parameters.items():
-                only_by_name = function is cycles.connected and name == "without"
-                kind = parameter.KEYWORD_ONLY if only_by_name else parameter.POSITIONAL_OR_KEYWORD
-                self.assertEqual(parameter.kind, kind)
-                self.assertEqual(parameter.default, () if only_by_name else parameter.empty)
+                self.check_parameter(function, name, parameter)
 
     def test_parameters_of_methods(self):
         for made, methods in METHODS.items():
@@ -126,11 +171,11 @@ class Calls(unittest.TestCase):
                 self.assertIn(method, vars(made))
                 parameters = inspect.signature(vars(made)[method]).parameters
                 self.assertEqual(tuple(parameters)[1:], names)
-                for parameter in parameters.values():
-                    self.assertEqual((parameter.kind, parameter.default), (parameter.POSITIONAL_OR_KEYWORD, parameter.empty))
+                for name, parameter in parameters.items():
+                    self.check_parameter(vars(made)[method], name, parameter)
 
     def test_methods_do_not_change_what_they_are_passed(self):
-        for made in METHODS:
+        for made in (machines.Machine, trailmachine.TrailMachine):
             machine = made(LINE)
             for value, kept in zip(odd_values() + [[("new", "a", "x")]], odd_values() + [[("new", "a", "x")]], strict=True):
                 for method in [name for name in ("do", "run", "forget") if name in METHODS[made]]:
@@ -139,12 +184,21 @@ class Calls(unittest.TestCase):
                     self.assertEqual(repr(value), repr(kept))
             self.assertEqual(len(machine), 0)
 
+    def test_builders_do_not_change_what_they_are_passed(self):
+        builder = builders.Builder(("a", "b"))
+        for value, kept in zip(odd_values(), odd_values(), strict=True):
+            for call in (lambda: builders.Builder(value), lambda: builder.add(value, value, kind=value),
+                         lambda: builder.add("p", value), lambda: builder.remove(value)):
+                with contextlib.suppress(errors.TrailError):
+                    call()
+                self.assertEqual(repr(value), repr(kept))
+
     def test_arguments_do_not_change(self):
         for function, arguments in calls():
-            before = copy.deepcopy(arguments)
+            before = copy.deepcopy(comparable(arguments))
             outcome(function, arguments)
-            self.assertEqual(arguments, before)
-            self.assertEqual(repr(arguments), repr(before))
+            self.assertEqual(comparable(arguments), before)
+            self.assertEqual(repr(comparable(arguments)), repr(before))
 
     def test_equal_calls(self):
         for (function, arguments), (again, others) in zip(calls(), calls(), strict=True):

@@ -4,8 +4,13 @@ import doctest
 import pathlib
 import unittest
 
+from wraptrails.builders import Builder
+from wraptrails.continuations import continuation, shows_continuation
+from wraptrails.cuts import cut_variables, least_cut, shows_cut
 from wraptrails.cycles import connected, girth, is_cycle, is_path, noticed, quiet, shortest_cycle, zones
+from wraptrails.detectors import detector, shows_detector, steps_needed
 from wraptrails.differences import compared, differences
+from wraptrails.errors import ClosesCycle
 from wraptrails.machines import Machine, answers
 from wraptrails.programs import has_revoke, is_step
 from wraptrails.trailmachine import TrailMachine
@@ -100,12 +105,50 @@ Section 10:
 
     >>> compared(line, (("same", "a", "root", "root"),))
     ((0, 0, (), ()),)
+
+    >>> steps_needed(ring)
+    6
+
+    >>> differences(ring, detector(ring))
+    (5,)
+
+    >>> shows_detector(ring, (("enter", "b", "x", "p", "a"),))
+    False
+
+Section 11:
+
+    >>> len(least_cut(ring, "a", "c")[1])
+    2
+
+    >>> shows_cut(line, "a", "c", ("cut", ("p",), (("a", "p", "b", "q", "c"),)))
+    True
+
+    >>> cut_variables(Machine(line))
+    ()
+
+Section 12:
+
+    >>> machine = Machine(line)
+    >>> machine.do(("enter", "b", "x", "p", "a")) is None
+    True
+    >>> shows_continuation(machine, machine.needed()[0], continuation(machine, machine.needed()[0]))
+    True
+
+    >>> shows_continuation(machine, machine.needed()[0], ())
+    False
+
+Section 13:
+
+    >>> builder = Builder(("a", "b"))
+    >>> builder.add("p", ("a", "b")) is None
+    True
 """
 
 NAMES = {function.__name__: function for function in (
     connected, girth, is_cycle, is_path, noticed, quiet, shortest_cycle, zones,
     crossed, inward, is_trail, outward, is_world, members, plain, with_open, has_revoke, is_step, Machine, answers,
-    TrailMachine, differences, compared)}
+    TrailMachine, differences, compared, steps_needed, detector, shows_detector, least_cut, shows_cut, cut_variables,
+    continuation, shows_continuation, Builder)}
 
 
 README = pathlib.Path(__file__).resolve().parent.parent / "README.md"
@@ -120,7 +163,13 @@ class Examples(unittest.TestCase):
         self.assertGreaterEqual(outcome.attempted, count)
 
     def test_document(self):
-        self.check(EXAMPLES, dict(NAMES), 27)
+        self.check(EXAMPLES, dict(NAMES), 39)
+
+    def test_builder_raises(self):
+        builder = Builder(("a", "b"))
+        self.assertIs(builder.add("p", ("a", "b")) is None, True)
+        with self.assertRaises(ClosesCycle):
+            builder.add("q", ("a", "b"), kind="open")
 
     def test_readme(self):
         self.check(README.read_text(encoding="utf-8"), {}, 25)

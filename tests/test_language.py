@@ -18,6 +18,10 @@ INTERFACE = {
     "machines": ("Machine", "answers"),
     "trailmachine": ("TrailMachine",),
     "differences": ("differences", "compared"),
+    "detectors": ("steps_needed", "detector", "shows_detector"),
+    "cuts": ("least_cut", "shows_cut", "cut_variables"),
+    "continuations": ("continuation", "shows_continuation"),
+    "builders": ("Builder",),
 }
 
 BUILTINS = set("""len range enumerate zip min max sum abs sorted reversed int str bool list tuple dict set isinstance ord
@@ -44,6 +48,10 @@ def trees():
 
 def defined(tree):
     return [node.name for node in tree.body if isinstance(node, (ast.FunctionDef, ast.ClassDef))]
+
+
+def constants(tree):
+    return [target.id for node in tree.body if isinstance(node, ast.Assign) for target in node.targets]
 
 
 def imports(tree):
@@ -126,7 +134,7 @@ class Language(unittest.TestCase):
                 package, _, module = node.module.partition(".")
                 self.assertEqual((package, node.level), ("wraptrails", 0), name)
                 for alias in node.names:
-                    self.assertIn(alias.name, defined(everything[module]))
+                    self.assertIn(alias.name, defined(everything[module]) + constants(everything[module]))
 
     def test_no_two_files_import_from_each_other(self):
         needs = {name: {node.module.partition(".")[2] for node in imports(tree)} for name, tree in trees().items()}
@@ -138,11 +146,11 @@ class Language(unittest.TestCase):
     def test_module_level(self):
         for name, tree in trees().items():
             self.assertIsNotNone(ast.get_docstring(tree), name)
-            bound = defined(tree) + [alias.asname or alias.name for node in imports(tree) for alias in node.names]
+            bound = defined(tree) + constants(tree)
+            bound += [alias.asname or alias.name for node in imports(tree) for alias in node.names]
             for node in tree.body[1:]:
                 self.assertIsInstance(node, (ast.ImportFrom, ast.FunctionDef, ast.ClassDef, ast.Assign), name)
                 if isinstance(node, ast.Assign):
-                    bound.extend(target.id for target in node.targets)
                     ast.literal_eval(node.value)
             self.assertEqual(len(bound), len(set(bound)), name)
             self.assertFalse([thing for thing in bound if thing in vars(builtins)], name)
@@ -153,6 +161,10 @@ class Language(unittest.TestCase):
                 self.assertNotIsInstance(node, BARRED, name)
                 if isinstance(node, ast.FunctionDef):
                     self.assertFalse(node.decorator_list or node.args.posonlyargs, node.name)
+                if isinstance(node, ast.Call):
+                    for argument in node.args:
+                        if isinstance(argument, ast.Starred):
+                            self.assertIsInstance(argument.value, ast.Name, name)
                 if isinstance(node, ast.Constant):
                     self.assertNotIsInstance(node.value, (float, complex), name)
                     self.assertFalse(isinstance(node.value, str) and "%" in node.value, name)
@@ -203,8 +215,13 @@ class Language(unittest.TestCase):
     def test_own_methods_are_no_methods_of_builtin_values(self):
         taken = {name for kind in (str, int, list, dict, set, bytes, tuple) for name in dir(kind)}
         for name, tree in trees().items():
-            for thing in methods(tree) + attributes(tree)[0]:
-                self.assertTrue(thing in DOUBLE or thing not in taken or thing in ("count",), thing)
+            for thing in methods(tree):
+                self.assertTrue(thing in DOUBLE or thing not in taken or thing in ("add", "remove"), thing)
+            for thing in attributes(tree)[0]:
+                self.assertTrue(thing not in taken or thing == "count", thing)
+            # Where a class has a method of that name, no set is changed by it.
+            called = [node.func.attr for node in ast.walk(tree) if isinstance(node, ast.Call) and isinstance(node.func, ast.Attribute)]
+            self.assertFalse({"add", "discard", "remove"} & set(called), name)
 
     def test_iterated_at_once(self):
         for name, tree in trees().items():

@@ -70,20 +70,22 @@ class Machine(Stepper):
         return self.table[key]
 
     def reached(self, reference):
-        """Return all values that are live because this reference is."""
+        """Return (value, reference, field) for all that is live because this reference is; a target has no field."""
         if reference.target is None:
-            return list(self.fields[reference.number].values())
-        return [] if reference.crossing[0] in self.revoked_names else [reference.target]
+            return [(value, reference, field) for field, value in self.fields[reference.number].items()]
+        return [] if reference.crossing[0] in self.revoked_names else [(reference.target, reference, None)]
 
     def live(self):
-        """Return all live references, as the keys of a dict."""
+        """Return how each live reference is reached: by (region, variable), (object, field) or (wrapper, None)."""
         found = {}
-        waiting = [value for own in self.variables.values() for value in own.values()]
+        waiting = [(value, region, name) for region, own in self.variables.items() for name, value in own.items()]
         while waiting:
-            value = waiting.pop()
-            if is_reference(value) and value not in found:
-                found[value] = True
-                waiting.extend(self.reached(value))
+            behind = []
+            for value, holder, name in waiting:
+                if is_reference(value) and value not in found:
+                    found[value] = (holder, name)
+                    behind.extend(self.reached(value))
+            waiting = behind
         return found
 
     def needed_table(self):
