@@ -11,8 +11,8 @@ import unittest
 from samples import HUB, LINE, LONE, NAMESAKES, RING, TWIN, full_world, odd_values, ring_world
 from slow import chances, drawn_program
 from test_steps import state
-from wraptrails import (builders, continuations, cuts, cycles, detectors, differences, errors, machines, programs,
-                        trailmachine, trails, worlds)
+from wraptrails import (builders, continuations, cuts, cycles, desks, detectors, differences, errors, machines, programs,
+                        reading, sessions, showing, trailmachine, trails, worlds)
 
 AB = ("p", "a", "b")
 WORLDS = (LONE, LINE, RING, HUB, TWIN, NAMESAKES, ring_world(6, ("wrap", "open")), full_world(("wrap", "open")))
@@ -48,6 +48,14 @@ PARAMETERS = {
     cuts.cut_variables: ("machine",),
     continuations.continuation: ("machine", "entry"),
     continuations.shows_continuation: ("machine", "entry", "value"),
+    showing.show_world: ("world",),
+    showing.show_step: ("step",),
+    showing.show_program: ("program",),
+    showing.show_answer: ("answer",),
+    showing.show_trail: ("trail",),
+    reading.read_world: ("text",),
+    reading.read_program: ("world", "text"),
+    reading.read_trail: ("world", "text"),
 }
 
 TRAIL_METHODS = {"do": ("step",), "run": ("program",), "answers": (), "value": ("region", "name"), "object_count": (),
@@ -57,6 +65,9 @@ METHODS = {
     trailmachine.TrailMachine: TRAIL_METHODS,
     builders.Builder: {"__init__": ("regions",), "__len__": (), "add": ("name", "members", "kind"), "remove": ("name",),
                        "world": (), "back": ()},
+    sessions.Session: {"__init__": ("world",), "__len__": (), "do": ("step",), "collect": (), "back": (), "back_to": ("mark",),
+                       "trial": ("look",), "machine": (), "program": ()},
+    desks.Desk: {"__init__": ("text",), "say": ("line",)},
 }
 # Parameters that are passed by name only, and what they are if they are not passed.
 BY_NAME = {(cycles.connected, "without"): (), (builders.Builder.add, "kind"): "wrap"}
@@ -86,16 +97,22 @@ for world in machine_worlds():
 def calls():
     """(function, arguments) for every function, with values of every kind where they are allowed."""
     found = [(worlds.is_world, (value,)) for value in [*odd_values(), *WORLDS]]
+    found.extend((reading.read_world, (value,)) for value in [*odd_values(), *map(showing.show_world, WORLDS)])
+    found.extend((showing.show_answer, (answer,)) for answer in (None, True, False, 0, 1, -7, "none", "object", "no object", "cut"))
     for world in WORLDS:
+        found.append((showing.show_world, (world,)))
         for function in (worlds.plain, cycles.zones, cycles.quiet, cycles.noticed, cycles.girth, cycles.shortest_cycle,
                          detectors.steps_needed, detectors.detector):
             found.append((function, (world,)))
         for function in (worlds.members, cycles.is_path, cycles.is_cycle, trails.is_trail, programs.is_step,
-                         programs.is_program, detectors.shows_detector):
+                         programs.is_program, detectors.shows_detector, reading.read_program, reading.read_trail):
             found.extend((function, (world, value)) for value in odd_values())
         for chance in chances(51, 4):
             program = drawn_program(chance, world, 40, revokes=chance.choice((0, 4)))
             found.append((programs.has_revoke, (program,)))
+            found.append((showing.show_program, (program,)))
+            found.extend((showing.show_step, (step,)) for step in program[:9])
+            found.append((reading.read_program, (world, showing.show_program(program))))
             found.extend((function, (world, program)) for function in (
                 programs.is_program, machines.answers, differences.differences, differences.compared,
                 detectors.shows_detector))
@@ -108,6 +125,8 @@ def calls():
             found.append((cuts.least_cut, (world, *ends)))
             found.extend((cuts.shows_cut, (world, *ends, value)) for value in [*odd_values(), cuts.least_cut(world, *ends)])
     for trail in ((), (AB,), (AB, ("q", "b", "c"))):
+        found.append((showing.show_trail, (trail,)))
+        found.append((reading.read_trail, (LINE, showing.show_trail(trail))))
         found.append((trails.crossed, (trail, "p", "b", "a")))
         found.append((trails.inward, (trail, (AB,))))
         found.append((trails.outward, (trail, (AB,))))
@@ -193,6 +212,15 @@ class Calls(unittest.TestCase):
                     call()
                 self.assertEqual(repr(value), repr(kept))
 
+    def test_sessions_and_desks_do_not_change_what_they_are_passed(self):
+        session, desk = sessions.Session(LINE), desks.Desk(showing.show_world(LINE))
+        for value, kept in zip(odd_values(), odd_values(), strict=True):
+            for call in (session.do, session.back_to, desk.say, desks.Desk):
+                with contextlib.suppress(errors.TrailError):
+                    call(value)
+                self.assertEqual(repr(value), repr(kept))
+        self.assertEqual(len(session), 0)
+
     def test_arguments_do_not_change(self):
         for function, arguments in calls():
             before = copy.deepcopy(comparable(arguments))
@@ -212,7 +240,7 @@ class Calls(unittest.TestCase):
     def test_results_hold_tuples_only(self):
         for function, arguments in calls():
             result = outcome(function, arguments)
-            if result is not None and not isinstance(result, (bool, int)) and result[:1] != ("error",):
+            if result is not None and not isinstance(result, (bool, int, str)) and result[:1] != ("error",):
                 self.assertIsInstance(result, tuple)
                 self.assertNotIn("[", repr(result))
 

@@ -8,11 +8,14 @@ from wraptrails.builders import Builder
 from wraptrails.continuations import continuation, shows_continuation
 from wraptrails.cuts import cut_variables, least_cut, shows_cut
 from wraptrails.cycles import connected, girth, is_cycle, is_path, noticed, quiet, shortest_cycle, zones
+from wraptrails.desks import Desk
 from wraptrails.detectors import detector, shows_detector, steps_needed
 from wraptrails.differences import compared, differences
 from wraptrails.errors import ClosesCycle
 from wraptrails.machines import Machine, answers
 from wraptrails.programs import has_revoke, is_step
+from wraptrails.sessions import Session
+from wraptrails.showing import show_program
 from wraptrails.trailmachine import TrailMachine
 from wraptrails.trails import crossed, inward, is_trail, outward
 from wraptrails.worlds import is_world, members, plain, with_open
@@ -142,13 +145,30 @@ Section 13:
     >>> builder = Builder(("a", "b"))
     >>> builder.add("p", ("a", "b")) is None
     True
+
+Section 14:
+
+    >>> session = Session(line)
+    >>> [session.do(("new", "a", "x")), len(session), session.back(), session.machine().object_count()]
+    [None, 1, None, 3]
+
+Section 15:
+
+    >>> show_program((("put", "a", "root", "f", "x"), ("number", "a", "x", -5)))
+    'put a root f x\\nnumber a x -5'
+
+Section 16:
+
+    >>> desk = Desk("regions a b\\nwrap p a b\\nopen q a b")
+    >>> [desk.say("enter b x p a"), desk.say("enter b y q a"), desk.say("same b x y"), desk.say("value b x")]
+    ['-', '-', 'no', 'object 0 p.a.b']
 """
 
 NAMES = {function.__name__: function for function in (
     connected, girth, is_cycle, is_path, noticed, quiet, shortest_cycle, zones,
     crossed, inward, is_trail, outward, is_world, members, plain, with_open, has_revoke, is_step, Machine, answers,
     TrailMachine, differences, compared, steps_needed, detector, shows_detector, least_cut, shows_cut, cut_variables,
-    continuation, shows_continuation, Builder)}
+    continuation, shows_continuation, Builder, Session, show_program, Desk)}
 
 
 README = pathlib.Path(__file__).resolve().parent.parent / "README.md"
@@ -163,7 +183,7 @@ class Examples(unittest.TestCase):
         self.assertGreaterEqual(outcome.attempted, count)
 
     def test_document(self):
-        self.check(EXAMPLES, dict(NAMES), 39)
+        self.check(EXAMPLES, dict(NAMES), 44)
 
     def test_builder_raises(self):
         builder = Builder(("a", "b"))
@@ -172,7 +192,7 @@ class Examples(unittest.TestCase):
             builder.add("q", ("a", "b"), kind="open")
 
     def test_readme(self):
-        self.check(README.read_text(encoding="utf-8"), {}, 25)
+        self.check(README.read_text(encoding="utf-8"), {}, 50)
 
 
 if __name__ == "__main__":

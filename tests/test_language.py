@@ -22,6 +22,10 @@ INTERFACE = {
     "cuts": ("least_cut", "shows_cut", "cut_variables"),
     "continuations": ("continuation", "shows_continuation"),
     "builders": ("Builder",),
+    "sessions": ("Session",),
+    "showing": ("show_world", "show_step", "show_program", "show_answer", "show_trail"),
+    "reading": ("read_world", "read_program", "read_trail"),
+    "desks": ("Desk",),
 }
 
 BUILTINS = set("""len range enumerate zip min max sum abs sorted reversed int str bool list tuple dict set isinstance ord
@@ -34,7 +38,7 @@ WORDS = re.compile(r"\b(type|typing|typing_extensions|enum|Enum|IntEnum|StrEnum|
 NEVER = set("register mro elements open input law version_info with_traceback add_note".split())
 METHODS = set("""append clear copy count endswith extend find get index insert isalnum isalpha isdigit islower isspace
     isupper items join keys ljust lower lstrip partition pop remove replace reverse rfind rjust rpartition rsplit rstrip
-    setdefault split splitlines startswith strip update upper values zfill bit_length add discard sort""".split())
+    setdefault split splitlines startswith strip update upper values zfill bit_length removeprefix""".split())
 BARRED = (ast.Global, ast.AsyncFunctionDef, ast.AsyncFor, ast.AsyncWith, ast.Await, ast.Import, ast.Div, ast.MatMult)
 
 
@@ -185,12 +189,12 @@ class Language(unittest.TestCase):
                 self.assertFalse(bound in vars(builtins), bound)
 
     def test_builtins_and_methods(self):
+        own = [function.name for tree in trees().values() for function in functions(tree)]
         for name, tree in trees().items():
             for node in ast.walk(tree):
                 if isinstance(node, ast.Name) and node.id in vars(builtins):
                     self.assertIn(node.id, BUILTINS, name)
                 if isinstance(node, ast.Call) and isinstance(node.func, ast.Attribute):
-                    own = [function.name for other in trees().values() for function in functions(other)]
                     self.assertIn(node.func.attr, METHODS | set(own), name)
 
     def test_classes(self):
@@ -232,6 +236,17 @@ class Language(unittest.TestCase):
                     around = parent.func.id if isinstance(parent, ast.Call) and isinstance(parent.func, ast.Name) else ""
                     good = around in ("list", "tuple", "dict", "sorted", "sum", "any", "all", "enumerate", "zip")
                     self.assertTrue(good or isinstance(parent, (ast.For, ast.comprehension)), (name, node.lineno))
+
+    def test_finally(self):
+        for name, tree in trees().items():
+            for node in ast.walk(tree):
+                if isinstance(node, ast.Try):
+                    self.assertFalse(node.handlers, name)
+                    for row in node.finalbody:
+                        self.assertIsInstance(row, ast.Assign, name)
+                        allowed = (ast.Tuple, ast.Name, ast.Attribute, ast.Load, ast.Store)
+                        parts = [part for own in [*row.targets, row.value] for part in ast.walk(own)]
+                        self.assertTrue(all(isinstance(part, allowed) for part in parts), name)
 
     def test_match(self):
         allowed = (ast.MatchSequence, ast.MatchValue, ast.MatchAs, ast.MatchStar, ast.MatchSingleton, ast.MatchOr)
